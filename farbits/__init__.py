@@ -1,0 +1,1 @@
+"""Whole numbers whose bits lie at places that are such numbers."""

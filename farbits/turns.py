@@ -1,0 +1,189 @@
+"""Turns of integers, and how forms are made of them, taken apart and ordered.
+
+A sequence of turns is a list or a tuple of the forms of places, ascending and
+without duplicates. Nothing in this file judges how large a number is.
+"""
+
+LAST_PLAIN_TURN = 64
+PLAIN_STOP = 2 ** 64
+FEW_TURNS = 8
+
+
+def is_plain(value):
+    """Whether an int is its own form."""
+    return -PLAIN_STOP <= value < PLAIN_STOP
+
+
+def is_near(place):
+    """Whether a place can be the greatest turn of a plain integer."""
+    return isinstance(place, int) and place <= LAST_PLAIN_TURN
+
+
+def turns_of_int(value):
+    """The turns of an int, as a new list."""
+    changes = value ^ (value << 1)
+    turns = []
+    while changes:
+        lowest = changes & -changes
+        turns.append(lowest.bit_length() - 1)
+        changes = changes ^ lowest
+    return turns
+
+
+def int_of_turns(turns):
+    """The int with a few near turns."""
+    value = 0
+    for turn in turns:
+        value = value ^ (-1 << turn)
+    return value
+
+
+def form_of_int(value):
+    """The form of an int of any length."""
+    if is_plain(value):
+        return value
+    return tuple(turns_of_int(value))
+
+
+def form_with(turns):
+    """The form of the integer with these turns."""
+    if not turns or is_near(turns[-1]):
+        return int_of_turns(turns)
+    return tuple(turns)
+
+
+def turns_in(x):
+    """The turns of a form, to be read only."""
+    if isinstance(x, int):
+        return turns_of_int(x)
+    return x
+
+
+def is_negative(x):
+    """Whether the integer of a form is below 0."""
+    if isinstance(x, int):
+        return x < 0
+    return len(x) & 1 == 1
+
+
+def compare(x, y):
+    """-1, 0 or 1, as the form x means less than, as much as, or more than y."""
+    if isinstance(x, int) and isinstance(y, int):
+        if x == y:
+            return 0
+        return -1 if x < y else 1
+    below = is_negative(x)
+    if below != is_negative(y):
+        return -1 if below else 1
+    # Of two integers with one sign the plain one is nearer to 0.
+    if isinstance(x, int):
+        return 1 if below else -1
+    if isinstance(y, int):
+        return -1 if below else 1
+    return compare_far(x, y)
+
+
+def compare_far(x, y):
+    """compare for two tuples with the same sign."""
+    same = common_tail(x, y)
+    if same == len(x) and same == len(y):
+        return 0
+    if same == len(x):
+        later = -1
+    elif same == len(y):
+        later = 1
+    else:
+        later = compare(x[-1 - same], y[-1 - same])
+    # Above the first turn that differs both have one bit, and just below it
+    # the one with the later turn has the other bit.
+    return -later if (len(x) - same) & 1 else later
+
+
+def common_tail(x, y):
+    """How many turns, from the last one on, two tuples have in common."""
+    most = min(len(x), len(y))
+    few = min(most, FEW_TURNS)
+    same = 0
+    while same < few and x[-1 - same] == y[-1 - same]:
+        same += 1
+    # One by one is slow for long tails: slices of growing length are compared.
+    step = same if same == FEW_TURNS else 0
+    while step:
+        more = same + step
+        if more <= most and x[len(x) - more:len(x) - same] == y[len(y) - more:len(y) - same]:
+            same = more
+            step = step * 2
+        else:
+            step = step // 2
+    return same
+
+
+def turns_before(turns, place, start):
+    """How many turns are less than a place; the first `start` ones are known to be."""
+    low = start
+    high = len(turns)
+    while low < high:
+        middle = (low + high) // 2
+        if compare(turns[middle], place) < 0:
+            low = middle + 1
+        else:
+            high = middle
+    return low
+
+
+def turns_up_to(turns, place):
+    """How many turns are not greater than a place."""
+    many = turns_before(turns, place, 0)
+    if many < len(turns) and turns[many] == place:
+        return many + 1
+    return many
+
+
+def shorter_first(x, y):
+    """Two sequences as a pair, the one with fewer turns first."""
+    if len(x) <= len(y):
+        return x, y
+    return y, x
+
+
+def merged_turns(x, y):
+    """The places that are a turn of exactly one of two sequences, as a new list."""
+    few, many = shorter_first(x, y)
+    merged = []
+    start = 0
+    for turn in few:
+        at = turns_before(many, turn, start)
+        merged.extend(many[start:at])
+        start = at
+        if at < len(many) and many[at] == turn:
+            start = at + 1
+        else:
+            merged.append(turn)
+    merged.extend(many[start:])
+    return merged
+
+
+def flipped_turns(turns):
+    """The turns of ~x for those of x, as a new list."""
+    if len(turns) > 0 and turns[0] == 0:
+        return list(turns[1:])
+    return [0, *turns]
+
+
+def common_turns(x, y):
+    """The turns of x & y for those of x and of y, as a new list."""
+    few, many = shorter_first(x, y)
+    common = []
+    # The ones of the shorter sequence stand from every second turn to the next.
+    for k in range(0, len(few), 2):
+        at = turns_up_to(many, few[k])
+        if at & 1:
+            common.append(few[k])
+        if k + 1 == len(few):
+            common.extend(many[at:])
+        else:
+            behind = turns_before(many, few[k + 1], at)
+            common.extend(many[at:behind])
+            if behind & 1:
+                common.append(few[k + 1])
+    return common
