@@ -41,18 +41,23 @@ def multiply(x, y):
 
 def power(x, n):
     """x to the power of n"""
-    if x == 2:
-        if not is_any_form(n) or is_negative(n):
-            raise InvalidPower(n)
-        return shift_left(1, n)
-    if not is_small_power(n):
+    if not is_exponent(x, n):
         raise InvalidPower(n)
+    return powered(x, n)
+
+
+def is_exponent(x, n):
+    """Whether power takes any value n for x."""
+    if x == 2:
+        return is_any_form(n) and not is_negative(n)
+    return isinstance(n, int) and not isinstance(n, bool) and 0 <= n <= MOST_POWER
+
+
+def powered(x, n):
+    """power for an exponent that it takes."""
+    if x == 2:
+        return shift_left(1, n)
     result = 1
     for _ in range(n):
         result = multiply(result, x)
     return result
-
-
-def is_small_power(n):
-    """Whether any value is an exponent for every number."""
-    return isinstance(n, int) and not isinstance(n, bool) and 0 <= n <= MOST_POWER

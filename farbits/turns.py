@@ -102,9 +102,8 @@ def compare_far(x, y):
 def common_tail(x, y):
     """How many turns, from the last one on, two tuples have in common."""
     most = min(len(x), len(y))
-    few = min(most, FEW_TURNS)
     same = 0
-    while same < few and x[-1 - same] == y[-1 - same]:
+    while same < FEW_TURNS and same < most and x[-1 - same] == y[-1 - same]:
         same += 1
     # One by one is slow for long tails: slices of growing length are compared.
     step = same if same == FEW_TURNS else 0

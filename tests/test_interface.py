@@ -29,7 +29,58 @@ FUNCTIONS = {
         "multiply": ["x", "y"],
         "power": ["x", "n"],
     },
+    "farbits.texts": {
+        "read_form": ["text", "values=None"],
+        "write_form": ["x"],
+    },
+    "farbits.counting": {
+        "ones_below": ["x", "p"],
+        "zeros_below": ["x", "p"],
+        "kth_one": ["x", "k"],
+        "kth_zero": ["x", "k"],
+        "one_from": ["x", "p"],
+        "zero_from": ["x", "p"],
+        "ones": ["x"],
+        "distance": ["x", "y"],
+        "highest_difference": ["x", "y"],
+        "holders": ["a", "b", "p"],
+        "ones_in_all": ["n"],
+        "carries": ["x", "y"],
+        "is_sum": ["x", "y", "z", "c"],
+    },
 }
+
+# For each class: its arguments, and what it defines itself.
+CLASSES = {
+    "farbits.far": {
+        "Far": (["value=0"], {
+            "power": (staticmethod, ["p"]),
+            "run": (staticmethod, ["start", "stop"]),
+            "read": (classmethod, ["text", "values=None"]),
+            "form": (property, []),
+            "sign": (property, []),
+            "size": (property, []),
+            "height": (property, []),
+            "length": (property, []),
+            "low": (property, []),
+            "turns": (None, []),
+            "whole": (None, []),
+        }),
+    },
+}
+
+
+def parameters_of(function):
+    """Names of parameters with defaults; a star stands ahead of those by name only."""
+    told = []
+    for parameter in inspect.signature(function).parameters.values():
+        if parameter.kind == parameter.KEYWORD_ONLY and "*" not in told:
+            told.append("*")
+        text = parameter.name
+        if parameter.default is not parameter.empty:
+            text += f"={parameter.default!r}"
+        told.append(text)
+    return told
 
 
 class Interface(unittest.TestCase):
@@ -41,11 +92,31 @@ class Interface(unittest.TestCase):
                     function = getattr(module, name)
                     self.assertTrue(inspect.isfunction(function))
                     self.assertEqual(function.__module__, module_name)
-                    parameters = inspect.signature(function).parameters
-                    self.assertEqual(list(parameters), arguments)
-                    for parameter in parameters.values():
-                        self.assertEqual(parameter.kind, parameter.POSITIONAL_OR_KEYWORD)
-                        self.assertIs(parameter.default, parameter.empty)
+                    self.assertEqual(parameters_of(function), arguments)
+
+    def test_classes_define_what_the_interface_lists(self):
+        for module_name, classes in CLASSES.items():
+            module = importlib.import_module(module_name)
+            for name, (arguments, members) in classes.items():
+                found = getattr(module, name)
+                self.assertTrue(inspect.isclass(found))
+                self.assertEqual(found.__module__, module_name)
+                self.assertEqual(parameters_of(found), arguments)
+                for member, (kind, told) in members.items():
+                    with self.subTest(owner=name, member=member):
+                        self.check_member(vars(found)[member], kind, told)
+
+    def check_member(self, member, kind, told):
+        if kind is property:
+            self.assertIsInstance(member, property)
+            self.assertIsNone(member.fset)
+        elif kind is None:
+            self.assertTrue(inspect.isfunction(member))
+            self.assertEqual(parameters_of(member)[1:], told)
+        else:
+            self.assertIsInstance(member, kind)
+            skipped = 1 if kind is classmethod else 0
+            self.assertEqual(parameters_of(member.__func__)[skipped:], told)
 
     def test_arguments_may_be_passed_by_name(self):
         from farbits import forms, products

@@ -21,6 +21,7 @@ METHODS = set("""
     reverse rfind rjust rpartition rsplit rstrip setdefault split splitlines startswith
     strip update upper values zfill bit_length
 """.split())
+FOLDING = set("any all sum min max sorted".split())
 BARRED_NODES = (
     ast.Global, ast.AsyncFunctionDef, ast.AsyncFor, ast.AsyncWith, ast.Await, ast.Div,
     ast.Import, ast.MatMult,
@@ -32,8 +33,6 @@ BARRED_WORDS = re.compile(
 
 def files():
     return sorted(PACKAGE.glob("**/*.py"))
-
-
 
 
 def module_names(tree):
@@ -137,6 +136,25 @@ class Language(unittest.TestCase):
             for node in ast.walk(tree):
                 if isinstance(node, ast.Call) and isinstance(node.func, ast.Attribute):
                     self.assertIn(node.func.attr, METHODS | own | {"__init__"})
+
+    def test_l5_l7_builtins_beside_classes_that_compare(self):
+        for _, _, tree in self.each_file():
+            for node in ast.walk(tree):
+                if not isinstance(node, ast.Call):
+                    continue
+                if isinstance(node.func, ast.Attribute):
+                    self.assertNotEqual(node.func.attr, "sort")
+                elif isinstance(node.func, ast.Name) and node.func.id in FOLDING:
+                    self.assertNotIsInstance(node.args[0], ast.GeneratorExp)
+
+    def test_l5_classes_with_items_are_not_iterated_over(self):
+        for _, _, tree in self.each_file():
+            for node in ast.walk(tree):
+                if isinstance(node, ast.ClassDef):
+                    names = [inner.name for inner in node.body if isinstance(inner, ast.FunctionDef)]
+                    self.assertEqual(len(names), len(set(names)))
+                    if "__getitem__" in names:
+                        self.assertIn("__iter__", names)
 
     def test_l27_strings(self):
         for _, _, tree in self.each_file():
