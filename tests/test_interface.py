@@ -48,6 +48,30 @@ FUNCTIONS = {
         "carries": ["x", "y"],
         "is_sum": ["x", "y", "z", "c"],
     },
+    "farbits.signed": {
+        "signed": ["x"],
+        "weight": ["x"],
+        "signed_sum": ["terms"],
+    },
+    "farbits.rests": {
+        "rest": ["x", "m"],
+        "divides": ["m", "x"],
+        "last_digits": ["x", "n"],
+        "periods": ["m"],
+        "is_levels": ["m", "levels"],
+        "rest_by": ["x", "levels"],
+    },
+    "farbits.covers": {
+        "cover_count": ["start", "stop"],
+        "cover_block": ["start", "stop", "k"],
+        "cover_at": ["start", "stop", "address"],
+        "cover_level": ["start", "stop", "order"],
+    },
+    "farbits.identities": {
+        "holds": ["claim", "*", "from_zero=()"],
+        "counterexample": ["claim", "*", "from_zero=()"],
+        "conjunctions": ["expression"],
+    },
 }
 
 # For each class: its arguments, and what it defines itself.
