@@ -7,8 +7,8 @@ with a weight. All of these integers together are -1, so the number n is the sum
 with the weight -n for each row.
 
 A part of an expression is a tuple (kind, worth): an integer part and its int; a
-bit term and an int with a one for each of its rows; a sum and the list of the
-weights of all rows.
+bit term and an int with ones for its rows, whose bits above all rows mean nothing; a
+sum and the list of the weights of all rows.
 """
 
 from farbits.errors import NotLinear
@@ -64,10 +64,8 @@ def weights_in(part, many):
 def part_ahead(sign, part, many):
     """What an operator ahead of a part makes of it."""
     kind, worth = part
-    if kind == WHOLE:
-        return (WHOLE, int_ahead(sign, worth))
-    if kind == BITS and sign == "~":
-        return (BITS, worth ^ ((1 << many) - 1))
+    if kind == WHOLE or (kind == BITS and sign == "~"):
+        return (kind, int_ahead(sign, worth))
     weights = weights_in(part, many)
     if sign == "-":
         return (SUM, [-weight for weight in weights])
@@ -87,7 +85,7 @@ def int_ahead(sign, value):
 def part_between(sign, left, right, many):
     """What an operator makes of the parts on both sides, None if that is not linear."""
     if sign in ("&", "|", "^"):
-        return joined(sign, left, right, many)
+        return joined(sign, left, right)
     if sign == "<<":
         return shifted(left, right, many)
     if sign == "*":
@@ -97,25 +95,19 @@ def part_between(sign, left, right, many):
     return None
 
 
-def joined(sign, left, right, many):
+def joined(sign, left, right):
     """The part that a bit operator makes, or None."""
     if left[0] == WHOLE and right[0] == WHOLE:
         return (WHOLE, with_bits(sign, left[1], right[1]))
-    first = rows_of_side(left, many)
-    second = rows_of_side(right, many)
-    if first is None or second is None:
+    if not is_side(left) or not is_side(right):
         return None
-    return (BITS, with_bits(sign, first, second))
+    return (BITS, with_bits(sign, left[1], right[1]))
 
 
-def rows_of_side(part, many):
-    """The rows of one side of a bit term, or None if it cannot stand there."""
+def is_side(part):
+    """Whether a part can stand beside a bit term: its int has ones for its rows."""
     kind, worth = part
-    if kind == BITS or (kind == WHOLE and worth == 0):
-        return worth
-    if kind == WHOLE and worth == -1:
-        return (1 << many) - 1
-    return None
+    return kind == BITS or (kind == WHOLE and worth in (0, -1))
 
 
 def with_bits(sign, x, y):

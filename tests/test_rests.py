@@ -82,6 +82,20 @@ class Rest(Case):
         self.gives(rest(Far.power(n), below), 1)
         self.gives(rest(5, above), 5)
 
+    def test_pieces_that_add_up_to_the_modulus(self):
+        far = Far.power(2**70)
+        for n in [Far(32), Far(64), Far(128), far, Far.power(far)]:
+            half = Far.power(n - 1) - 1
+            # The pieces of n bits are half, half and 1: together 2**n - 1.
+            x = half + (half << n) + Far.power(2 * n)
+            m = Far.power(n) - 1
+            self.gives(rest(x, m), 0)
+            self.assertIs(divides(m, x), True)
+            self.gives(rest(x + 1, m), 1)
+            self.gives(rest(x - 1, m), m - 1)
+            self.gives(rest(-x, m), 0)
+            self.gives(rest(half + 1 + (half << n) + Far.power(3 * n + 1), m), 2)
+
     def test_against_ints(self):
         source = model.source_of("rests")
         for _ in range(60):
