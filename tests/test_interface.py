@@ -74,6 +74,8 @@ FUNCTIONS = {
     },
 }
 
+GAP = ["*", "level=0", "above=0"]
+
 # For each class: its arguments, and what it defines itself.
 CLASSES = {
     "farbits.far": {
@@ -91,6 +93,115 @@ CLASSES = {
             "whole": (None, []),
         }),
     },
+    "farbits.places": {
+        "Places": (["bits=0"], {
+            "of": (classmethod, ["ranges"]),
+            "ranges": (None, []),
+            "how_many": (None, []),
+            "below": (None, ["place"]),
+            "kth": (None, ["k"]),
+            "widest": (None, []),
+            "gap": (None, ["size", *GAP]),
+            "pages": (None, ["level"]),
+            "whole_pages": (None, ["level"]),
+        }),
+    },
+    "farbits.maps": {
+        "Map": (["pieces=()"], {
+            "shift": (classmethod, ["places", "by"]),
+            "domain": (None, []),
+            "image": (None, []),
+            "twice": (None, []),
+            "rising": (None, []),
+            "fixed": (None, []),
+            "__call__": (None, ["places"]),
+        }),
+    },
+    "farbits.books": {
+        "Book": (["limit"], {
+            "take": (None, ["name", "size", *GAP]),
+            "give": (None, ["name"]),
+            "resize": (None, ["name", "size"]),
+            "move": (None, ["name", *GAP]),
+            "pack": (None, ["*", "level=0"]),
+            "keep": (None, ["start", "stop"]),
+            "unkeep": (None, ["start", "stop"]),
+            "rooms": (None, []),
+            "taken": (None, []),
+            "kept": (None, []),
+            "unused": (None, []),
+            "who": (None, ["address"]),
+            "best": (None, GAP),
+            "undo": (None, []),
+            "undoable": (None, []),
+            "attempt": (None, ["action"]),
+            "explore": (None, ["action"]),
+        }),
+    },
+    "farbits.buddies": {
+        "Buddies": (["top"], {
+            "take": (None, ["name", "order"]),
+            "give": (None, ["name"]),
+            "guard": (None, ["order", "many=1"]),
+            "undo": (None, []),
+            "attempt": (None, ["action"]),
+            "copied": (None, []),
+            "names": (None, []),
+            "guards": (None, []),
+            "who": (None, ["address"]),
+            "free_ranges": (None, []),
+            "free_cells": (None, []),
+            "fits": (None, ["order"]),
+            "free_count": (None, ["order"]),
+            "free_blocks": (None, []),
+            "free_block": (None, ["k"]),
+            "greatest": (None, []),
+            "would": (None, ["order"]),
+            "halvings": (None, ["order"]),
+            "halved": (None, ["order", "j"]),
+            "joinings": (None, ["name"]),
+            "joined": (None, ["name", "j"]),
+        }),
+    },
+    "farbits.stores": {
+        "Store": (["values=None"], {
+            "names": (None, []),
+            "table": (None, []),
+            "drop": (None, ["name"]),
+            "copied": (None, []),
+            "undo": (None, []),
+            "undoable": (None, []),
+            "attempt": (None, ["action"]),
+            "explore": (None, ["action"]),
+        }),
+    },
+    "farbits.programs": {
+        "Program": (["text"], {
+            "__call__": (None, ["store"]),
+            "folded": (None, []),
+            "assigned": (None, []),
+        }),
+    },
+    "farbits.desks": {
+        "Desk": (["limit"], {
+            "answer": (None, ["line"]),
+            "answers": (None, ["lines"]),
+        }),
+    },
+}
+
+# What each class defines of the operators, questions in brackets and texts.
+SIGNS = {
+    "farbits.far.Far": """
+        eq lt le gt ge add radd sub rsub mul rmul floordiv rfloordiv pow lshift rlshift rshift
+        rrshift and rand or ror xor rxor neg pos invert abs bool getitem str
+    """,
+    "farbits.places.Places": "eq le lt ge gt or and sub xor lshift rshift contains bool str",
+    "farbits.maps.Map": "eq mul invert or and sub getitem call contains bool str",
+    "farbits.books.Book": "getitem contains len",
+    "farbits.buddies.Buddies": "getitem setitem contains len",
+    "farbits.stores.Store": "getitem setitem contains len",
+    "farbits.programs.Program": "call len",
 }
 
 
@@ -129,6 +240,25 @@ class Interface(unittest.TestCase):
                 for member, (kind, told) in members.items():
                     with self.subTest(owner=name, member=member):
                         self.check_member(vars(found)[member], kind, told)
+
+    def test_classes_define_their_operators(self):
+        for owner, text in SIGNS.items():
+            module_name, _, name = owner.rpartition(".")
+            found = getattr(importlib.import_module(module_name), name)
+            for sign in text.split():
+                with self.subTest(owner=name, sign=sign):
+                    self.assertIn(f"__{sign}__", vars(found))
+
+    def test_attributes_are_set_when_an_object_is_created(self):
+        from farbits.books import Book
+        from farbits.buddies import Buddies
+        from farbits.desks import Desk
+        from farbits.far import Far
+        from farbits.maps import Map
+        from farbits.places import Places
+        for owner, name, kind in [(Places(5), "bits", Far), (Map(), "pieces", tuple), (Book(5), "limit", Far),
+                                  (Buddies(5), "top", Far), (Desk(5), "book", Book)]:
+            self.assertIs(type(vars(owner)[name]), kind)
 
     def check_member(self, member, kind, told):
         if kind is property:

@@ -50,6 +50,8 @@ def local_names(tree):
     for node in ast.walk(tree):
         if isinstance(node, ast.arg):
             yield node.arg
+        elif isinstance(node, ast.ExceptHandler) and node.name:
+            yield node.name
         elif isinstance(node, ast.FunctionDef):
             for inner in ast.walk(node):
                 if isinstance(inner, ast.Name) and isinstance(inner.ctx, ast.Store):
