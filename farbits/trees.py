@@ -1,0 +1,36 @@
+"""What a program is made of: statements, each of which knows the number of its line.
+
+Expressions are lists of steps, and blocks are lists of statements.
+"""
+
+
+class Assignment:
+    """NAME = E, or NAME OP= E; the operator is empty for the first kind."""
+
+    def __init__(self, line, name, operator, steps):
+        self.line = line
+        self.name = name
+        self.operator = operator
+        self.steps = steps
+
+
+class Choice:
+    """A block that is done if a comparison is true, and another one, or None."""
+
+    def __init__(self, line, left, comparison, right):
+        self.line = line
+        self.left = left
+        self.comparison = comparison
+        self.right = right
+        self.block = []
+        self.other = None
+
+
+class Repeat:
+    """A block that is done so many times as the steps give."""
+
+    def __init__(self, line, steps):
+        self.line = line
+        self.steps = steps
+        self.block = []
+        self.is_folded = False
