@@ -72,7 +72,9 @@ class Run:
             Fold(self).finish(statement, count)
             return
         # Each round does a statement at least, so that more rounds are never done.
-        rounds = count if compare(count, MOST_STATEMENTS) < 0 else MOST_STATEMENTS + 1
+        rounds = MOST_STATEMENTS + 1
+        if compare(count, rounds) < 0:
+            rounds = count if compare(count, 0) > 0 else 0
         for _ in range(rounds):
             self.do_block(statement.block)
 
