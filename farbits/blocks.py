@@ -24,7 +24,7 @@ def cover_of(start, stop):
 
 def blocks_in(side):
     """How many blocks a side of the middle has."""
-    return all_ones(turns_in(side))
+    return all_ones(side)
 
 
 def block_below(cover, order):

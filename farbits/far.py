@@ -285,6 +285,13 @@ def number_form(value):
     return form_in(value)
 
 
+def int_or_form(value):
+    """Any value where a number is expected: an int as it is, the form of a Far."""
+    if not is_number(value):
+        raise NotANumber(value)
+    return value.form if isinstance(value, Far) else value
+
+
 def place_form(value):
     """The form of any value where a place is expected."""
     form = number_form(value)

@@ -1,10 +1,11 @@
 """How the rests of the powers of two by small moduli repeat, level by level."""
 
 from farbits.raw import minus
-from farbits.turns import compare
+from farbits.turns import near_int
 
 MOST_MODULUS = 1000000
 MOST_TWO = 20
+FIRST_BITS = 9
 
 
 def is_modulus(value):
@@ -98,19 +99,19 @@ def primes_in(number):
 
 def rest_of_near_power(exponent, modulus):
     """The rest of 2**exponent by a modulus, for an int as exponent."""
-    rest = 1 % modulus
-    for k in range(exponent.bit_length() - 1, -1, -1):
-        rest = rest * rest % modulus
-        if (exponent >> k) & 1:
-            rest = rest * 2 % modulus
+    behind = max(0, exponent.bit_length() - FIRST_BITS)
+    rest = (1 << (exponent >> behind)) % modulus
+    for k in range(behind - 1, -1, -1):
+        rest = (rest * rest << ((exponent >> k) & 1)) % modulus
     return rest
 
 
 def rest_by_levels(x, levels, at):
-    """The rest of a form by the modulus of a level, an int."""
+    """The rest of a form, or of any int, by the modulus of a level, an int."""
     modulus = levels[at][0]
-    if isinstance(x, int):
-        return x % modulus
+    value = near_int(x)
+    if value is not None:
+        return value % modulus
     rest = 0
     for k in range(len(x)):
         power = rest_of_power(x[k], levels, at)
@@ -120,11 +121,14 @@ def rest_by_levels(x, levels, at):
 
 def rest_of_power(place, levels, at):
     """The rest of 2**place by the modulus of a level, an int."""
-    modulus, two, odd, _ = levels[at]
-    if compare(place, two) < 0:
-        return (1 << place) % modulus
-    if odd == 1:
+    modulus, two, odd, period = levels[at]
+    if isinstance(place, int):
+        if place < two:
+            return (1 << place) % modulus
+        # The modulus of the next level is the period of this one.
+        within = (place - two) % period
+    elif odd == 1:
         return 0
-    # The modulus of the next level is the period of this one.
-    within = rest_by_levels(minus(place, two), levels, at + 1)
+    else:
+        within = rest_by_levels(minus(place, two), levels, at + 1)
     return (rest_of_near_power(within, odd) << two) % modulus

@@ -32,7 +32,7 @@ class Places:
 
     def how_many(self):
         """The number of places in the set."""
-        return far_of(all_ones(turns_in(self.bits.form)))
+        return far_of(all_ones(self.bits.form))
 
     def below(self, place):
         """How many places of the set are less than a place."""

@@ -4,9 +4,9 @@ What is only needed on the way is computed with these functions; the functions
 that callers see judge what they return.
 """
 
-from farbits.turns import common_turns, compare, flipped_turns, form_of_int
-from farbits.turns import form_with, merged_turns, shorter_first, turns_in
-from farbits.turns import turns_up_to
+from farbits.turns import PLAIN_STOP, are_near, common_turns, flipped_turns
+from farbits.turns import form_of_int, form_with, int_of_form, is_less, merged_turns
+from farbits.turns import shorter_first, turns_in, turns_up_to
 
 
 def bit_at(x, place):
@@ -25,6 +25,8 @@ def both(x, y):
     """x & y"""
     if isinstance(x, int) and isinstance(y, int):
         return x & y
+    if are_near(x, y):
+        return form_of_int(int_of_form(x) & int_of_form(y))
     return form_with(common_turns(turns_in(x), turns_in(y)))
 
 
@@ -37,6 +39,8 @@ def differ(x, y):
     """x ^ y"""
     if isinstance(x, int) and isinstance(y, int):
         return x ^ y
+    if are_near(x, y):
+        return form_of_int(int_of_form(x) ^ int_of_form(y))
     return form_with(merged_turns(turns_in(x), turns_in(y)))
 
 
@@ -69,16 +73,17 @@ def carry_turns(x, y, carry):
     if carry == 1:
         turns.append(0)
     bit_in = carry
+    at = 0
     for k in range(len(few) + 1):
         bit = k & 1
         if bit == bit_in:
             continue
         start = few[k - 1] if k > 0 else 0
-        at = turns_up_to(many, start)
+        at = turns_up_to(many, start, at)
         if (at & 1) != bit and at == len(many):
             continue
         place = start if (at & 1) == bit else many[at]
-        if k == len(few) or compare(place, few[k]) < 0:
+        if k == len(few) or is_less(place, few[k]):
             turns.append(plus_one(place))
             bit_in = bit
     return turns
@@ -94,6 +99,8 @@ def plus(x, y):
     """x + y"""
     if isinstance(x, int) and isinstance(y, int):
         return form_of_int(x + y)
+    if are_near(x, y):
+        return form_of_int(int_of_form(x) + int_of_form(y))
     return form_with(summed_turns(turns_in(x), turns_in(y), 0))
 
 
@@ -101,20 +108,35 @@ def minus(x, y):
     """x - y"""
     if isinstance(x, int) and isinstance(y, int):
         return form_of_int(x - y)
+    if are_near(x, y):
+        return form_of_int(int_of_form(x) - int_of_form(y))
     return form_with(summed_turns(turns_in(x), flipped_turns(turns_in(y)), 1))
 
 
 def shifted_up(x, amount):
     """x * 2**amount, for an amount from 0 on."""
-    return form_with([plus(turn, amount) for turn in turns_in(x)])
+    turns = turns_in(x)
+    if are_movable(turns, amount):
+        return form_with([turn + amount for turn in turns])
+    return form_with([plus(turn, amount) for turn in turns])
 
 
 def shifted_down(x, amount):
     """x divided by 2**amount and rounded down, for an amount from 0 on."""
     turns = turns_in(x)
     at = turns_up_to(turns, amount)
-    moved = [minus(turn, amount) for turn in turns[at:]]
+    if are_movable(turns, amount):
+        moved = [turn - amount for turn in turns[at:]]
+    else:
+        moved = [minus(turn, amount) for turn in turns[at:]]
     return form_with([0, *moved] if at & 1 else moved)
+
+
+def are_movable(turns, amount):
+    """Whether turns and an amount are plain ints, and their sums, too."""
+    if not isinstance(amount, int) or len(turns) == 0 or not isinstance(turns[-1], int):
+        return False
+    return turns[-1] + amount < PLAIN_STOP
 
 
 def total(forms):
@@ -141,6 +163,8 @@ def times(x, y):
     """x * y"""
     if isinstance(x, int) and isinstance(y, int):
         return form_of_int(x * y)
+    if are_near(x, y):
+        return form_of_int(int_of_form(x) * int_of_form(y))
     few, many = shorter_first(turns_in(x), turns_in(y))
     factor = form_with(many)
     against = opposite(factor)

@@ -1,7 +1,7 @@
 """Rests by short moduli, decimal digits, and the levels of small moduli."""
 
 from farbits.errors import InvalidCount, InvalidLevels, NotShort
-from farbits.far import far_of, number_form
+from farbits.far import far_of, int_or_form, number_form
 from farbits.levels import are_levels, is_modulus, least_levels, rest_by_levels
 from farbits.moduli import modulus_kind, rest_of_form
 from farbits.raw import opposite
@@ -57,7 +57,7 @@ def is_levels(m, levels):
 
 def rest_by(x, levels):
     """The rest of x by the first modulus of levels."""
-    form = number_form(x)
+    value = int_or_form(x)
     if not are_levels(levels):
         raise InvalidLevels(levels)
-    return far_of(rest_by_levels(form, levels, 0))
+    return far_of(rest_by_levels(value, levels, 0))

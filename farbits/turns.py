@@ -7,6 +7,11 @@ without duplicates. Nothing in this file judges how large a number is.
 LAST_PLAIN_TURN = 64
 PLAIN_STOP = 2 ** 64
 FEW_TURNS = 8
+MANY_TURNS = 16
+NEAR_PLACE = 1000
+FAR_PLACE = 5000
+BITS_FOR_A_TURN = 64
+BITS = "01"
 
 
 def is_plain(value):
@@ -24,18 +29,81 @@ def turns_of_int(value):
     changes = value ^ (value << 1)
     turns = []
     while changes:
+        if len(turns) == FEW_TURNS:
+            turns.extend(ones_of_text(changes))
+            break
         lowest = changes & -changes
         turns.append(lowest.bit_length() - 1)
         changes = changes ^ lowest
     return turns
 
 
+def ones_of_text(value):
+    """The places of the ones of an int from 0 on, as a new list."""
+    # The zeros of its text are counted row by row: that is faster than to take the
+    # ones out of a long int one by one.
+    text = f"{value:b}"
+    places = []
+    place = -1
+    for zeros in text[::-1].split("1"):
+        place = place + len(zeros) + 1
+        places.append(place)
+    # What stands behind the last one ends no row.
+    places.pop()
+    return places
+
+
 def int_of_turns(turns):
-    """The int with a few near turns."""
+    """The int with these turns, which are near."""
+    if len(turns) > MANY_TURNS:
+        return int_of_rows(turns)
     value = 0
     for turn in turns:
         value = value ^ (-1 << turn)
     return value
+
+
+def int_of_rows(turns):
+    """The int with many turns, from its rows of equal bits."""
+    rows = [BITS[k & 1] * (turns[k] - turns[k - 1]) for k in range(len(turns) - 1, 0, -1)]
+    rows.append(BITS[0] * turns[0])
+    value = int("".join(rows), 2)
+    return value - (1 << turns[-1]) if len(turns) & 1 else value
+
+
+def near_int(x):
+    """The int with a form, if its last turn is near, else None."""
+    if isinstance(x, int):
+        return x
+    last = x[-1]
+    return int_of_turns(x) if isinstance(last, int) and last <= FAR_PLACE else None
+
+
+def int_of_form(x):
+    """The int with a form whose turns are near."""
+    return x if isinstance(x, int) else int_of_turns(x)
+
+
+def are_near(x, y):
+    """Whether two forms, not both of them ints, are computed with faster as ints."""
+    if isinstance(x, int):
+        return is_short(y)
+    if isinstance(y, int):
+        return is_short(x)
+    first, second = x[-1], y[-1]
+    if not isinstance(first, int) or not isinstance(second, int):
+        return False
+    many = len(x) + len(y)
+    # Few turns are put into many faster than many are taken apart.
+    if many > 2 * MANY_TURNS and (len(x) < MANY_TURNS or len(y) < MANY_TURNS):
+        return False
+    most = NEAR_PLACE + BITS_FOR_A_TURN * many
+    return first <= most and second <= most
+
+
+def is_short(x):
+    """Whether a tuple has few turns, which are near."""
+    return len(x) <= MANY_TURNS and isinstance(x[-1], int) and x[-1] <= NEAR_PLACE
 
 
 def form_of_int(value):
@@ -117,22 +185,45 @@ def common_tail(x, y):
     return same
 
 
+def is_less(x, y):
+    """Whether a place is less than another one."""
+    if isinstance(x, int):
+        return not isinstance(y, int) or x < y
+    if isinstance(y, int):
+        return False
+    return compare_far(x, y) < 0
+
+
 def turns_before(turns, place, start):
     """How many turns are less than a place; the first `start` ones are known to be."""
     low = start
-    high = len(turns)
+    high = start
+    step = 1
+    # Steps of growing length: the place is often near the start.
+    while high < len(turns) and is_less(turns[high], place):
+        low = high + 1
+        high = high + step
+        step = step * 2
+    return turns_between(turns, place, low, min(high, len(turns)))
+
+
+def turns_between(turns, place, low, high):
+    """How many turns are less than a place; that is a number from low to high."""
     while low < high:
         middle = (low + high) // 2
-        if compare(turns[middle], place) < 0:
+        if is_less(turns[middle], place):
             low = middle + 1
         else:
             high = middle
     return low
 
 
-def turns_up_to(turns, place):
-    """How many turns are not greater than a place."""
-    many = turns_before(turns, place, 0)
+def turns_up_to(turns, place, start=0):
+    """How many turns are not greater than a place; the first ones are known to be."""
+    if start == 0:
+        many = turns_between(turns, place, 0, len(turns))
+    else:
+        many = turns_before(turns, place, start)
     if many < len(turns) and turns[many] == place:
         return many + 1
     return many
@@ -173,9 +264,10 @@ def common_turns(x, y):
     """The turns of x & y for those of x and of y, as a new list."""
     few, many = shorter_first(x, y)
     common = []
+    behind = 0
     # The ones of the shorter sequence stand from every second turn to the next.
     for k in range(0, len(few), 2):
-        at = turns_up_to(many, few[k])
+        at = turns_up_to(many, few[k], behind)
         if at & 1:
             common.append(few[k])
         if k + 1 == len(few):
