@@ -13,7 +13,7 @@ from farbits.turns import turns_in
 SUMS = "sums"
 SHIFTS = "shifts"
 BITS = "bits"
-GROUPS = {"+": SUMS, "-": SUMS, "<<": SHIFTS, "&": BITS, "|": BITS, "^": BITS}
+GROUPS = {"+": "sums", "-": "sums", "<<": "shifts", "&": "bits", "|": "bits", "^": "bits"}
 
 
 def is_foldable(block):
@@ -29,12 +29,8 @@ def is_foldable(block):
     groups = groups_of(steps)
     if groups is None:
         return False
-    alone = len(steps) == len(found)
-    for statement in found:
-        if has_name_of(statement.steps, groups):
-            if not alone or not is_sum_of_sums(statement, steps, groups):
-                return False
-    return True
+    bound = [statement for statement in found if has_name_of(statement.steps, groups)]
+    return not bound or (len(steps) == len(found) and are_sums_of_sums(bound, groups))
 
 
 def statements_within(block):
@@ -68,14 +64,19 @@ def single_name(steps):
     return what if len(steps) == 1 and kind == NAME else None
 
 
-def is_sum_of_sums(step, steps, groups):
-    """Whether a step adds another name, to which all steps add what stays the same."""
-    name = single_name(step.steps)
-    if name is None or name == step.name:
-        return False
-    if groups[step.name] != SUMS or groups[name] != SUMS:
-        return False
-    return not any([other.name == name and has_name_of(other.steps, groups) for other in steps])
+def are_sums_of_sums(bound, groups):
+    """Whether steps add names to other ones, to which is added only what stays the same.
+
+    The steps are all those of a block whose expressions have names that it assigns.
+    """
+    changing = {step.name: True for step in bound}
+    for step in bound:
+        name = single_name(step.steps)
+        if name is None or name in changing:
+            return False
+        if groups[step.name] != SUMS or groups[name] != SUMS:
+            return False
+    return True
 
 
 def gain_of(operator, amount):

@@ -108,16 +108,16 @@ class Fold:
         """Makes of the names what so many rounds make of them."""
         if compare(count, 0) <= 0:
             return
+        run = self.running
         gains = self.gains_of(repeat, count)
         numbers = {}
         for name in self.firsts:
-            gain = gain_repeated(gains[name], count)
-            numbers[name] = applied(gain, self.running.numbers[name])
+            numbers[name] = applied(gain_repeated(gains[name], count), run.numbers[name])
         for name, amount in self.growth(gains):
             numbers[name] = plus(numbers[name], times(amount, pairs_below(count)))
         for name in self.firsts:
-            self.running.line = self.firsts[name].line
-            self.running.numbers[name] = judged(numbers[name])
+            run.line = self.firsts[name].line
+            run.numbers[name] = judged(numbers[name])
 
     def growth(self, gains):
         """Pairs of a name and what each round adds more to it than the one before."""

@@ -30,7 +30,8 @@ class Store:
         if not is_name(at):
             raise InvalidName(at)
         form = judged(number_form(worth))
-        self._log.change({**self._log.content(), at: form})
+        forms = self._log.content()
+        self._log.change({**forms, at: form})
 
     def __iter__(self):
         raise TypeError("a store is not iterated over")
