@@ -130,8 +130,7 @@ def answer_of_book(book, command, read):
         start, stop = book[read[0]]
         return f"{start}:{stop}"
     if command == "rooms":
-        rooms = [f"{name} {start}:{stop}" for name, start, stop in book.rooms()]
-        return ", ".join(rooms) if len(rooms) > 0 else "none"
+        return text_of_rooms(book.rooms())
     if command == "unused":
         return str(book.unused())
     if command == "taken":
@@ -140,3 +139,10 @@ def answer_of_book(book, command, read):
         return str(book.kept())
     level, above = read[0] if len(read) > 0 else 0, read[1] if len(read) > 1 else 0
     return str(book.best(level=level, above=above))
+
+
+def text_of_rooms(rooms):
+    """The text of rooms (name, start, stop)."""
+    if len(rooms) == 0:
+        return "none"
+    return ", ".join([f"{name} {start}:{stop}" for name, start, stop in rooms])

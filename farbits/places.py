@@ -74,7 +74,7 @@ class Places:
         return places_of(whole_pages_of(self.bits.form, place_form(level)))
 
     def __str__(self):
-        return text_of_ranges(ranges_in(self.bits.form))
+        return str(text_of_ranges(ranges_in(self.bits.form)))
 
     def __bool__(self):
         return bool(self.bits.form != 0)
