@@ -41,14 +41,14 @@ class Book:
         stop = plus(start, amount)
         if compare(stop, self.limit.form) > 0:
             raise NoRoom(name, size)
-        self._log.change((with_room(rooms, (start, stop, name)), kept))
+        self._log.go_on((with_room(rooms, (start, stop, name)), kept))
         return Far(Sound(start))
 
     def give(self, name):
         """Ends a room."""
         rooms, kept = self._log.content()
         room = room_of(rooms, name)
-        self._log.change((without_room(rooms, room), kept))
+        self._log.go_on((without_room(rooms, room), kept))
 
     def resize(self, name, size):
         """Gives another size to a room."""
@@ -61,7 +61,7 @@ class Book:
         barred = both(either(kept, taken_by(others)), form_with([start, stop]))
         if barred != 0 or compare(stop, self.limit.form) > 0:
             raise NoRoom(name, size)
-        self._log.change((with_room(others, (start, stop, name)), kept))
+        self._log.go_on((with_room(others, (start, stop, name)), kept))
 
     def move(self, name, *, level=0, above=0):
         """Moves a room to the least start that take would find, and returns it."""
@@ -74,7 +74,7 @@ class Book:
         stop = plus(start, amount)
         if compare(stop, self.limit.form) > 0:
             raise NoRoom(name, far_of(amount))
-        self._log.change((with_room(others, (start, stop, name)), kept))
+        self._log.go_on((with_room(others, (start, stop, name)), kept))
         return Far(Sound(start))
 
     def pack(self, *, level=0):
@@ -96,7 +96,7 @@ class Book:
             judged(first)
             judged(behind)
         told = map_of(joined_rows(moves))
-        self._log.change((tuple(packed), kept))
+        self._log.go_on((tuple(packed), kept))
         return told
 
     def keep(self, start, stop):
@@ -106,13 +106,13 @@ class Book:
         there = rows_within(rooms, low, high)
         if len(there) > 0:
             raise RoomThere(there[0][2])
-        self._log.change((rooms, either(kept, form_of_ranges([(low, high)]))))
+        self._log.go_on((rooms, either(kept, form_of_ranges([(low, high)]))))
 
     def unkeep(self, start, stop):
         """Keeps the addresses of a range no longer."""
         low, high = self._inside(start, stop)
         rooms, kept = self._log.content()
-        self._log.change((rooms, without(kept, form_of_ranges([(low, high)]))))
+        self._log.go_on((rooms, without(kept, form_of_ranges([(low, high)]))))
 
     def _inside(self, start, stop):
         """The forms of any two values where a range of addresses is expected."""
@@ -160,19 +160,19 @@ class Book:
 
     def undo(self):
         """Takes back the last deed that is not taken back yet."""
-        self._log.undo()
+        self._log.go_back()
 
     def undoable(self):
         """How many deeds can be taken back."""
-        return self._log.undoable()
+        return self._log.many_before()
 
     def attempt(self, action):
         """What action(book) returns; if it raises an error, the book is as before."""
-        return self._log.attempt(self, action)
+        return self._log.attempted(self, action)
 
     def explore(self, action):
         """What action(book) returns; the book is as before in any case."""
-        return self._log.explore(self, action)
+        return self._log.explored(self, action)
 
     def __getitem__(self, at):
         rooms, _ = self._log.content()

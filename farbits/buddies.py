@@ -38,7 +38,7 @@ class Buddies:
         if row_named(kept, name) is not None:
             raise NameTaken(name)
         start, stop = block_for(free, place_form(order), order)
-        self._log.change(with_block(kept, free, guards, (start, stop, name, place_form(order))))
+        self._log.go_on(with_block(kept, free, guards, (start, stop, name, place_form(order))))
         return far_pair((start, stop))
 
     def give(self, name):
@@ -47,7 +47,7 @@ class Buddies:
         start, stop, _, _ = row_of(kept, name)
         more = freed(free, start, stop)
         told = far_pair(block_around(more, start))
-        self._log.change((without_block(kept, name), more, guards))
+        self._log.go_on((without_block(kept, name), more, guards))
         return told
 
     def __setitem__(self, at, worth):
@@ -62,7 +62,7 @@ class Buddies:
         else:
             others, more = without_block(kept, at), freed(free, row[0], row[1])
             start, stop = block_again(more, row, order, worth)
-        self._log.change(with_block(others, more, guards, (start, stop, at, order)))
+        self._log.go_on(with_block(others, more, guards, (start, stop, at, order)))
 
     def guard(self, order, many=1):
         """Refuses deeds after which fewer than so many blocks of an order would fit."""
@@ -74,20 +74,20 @@ class Buddies:
         others = tuple([row for row in guards if row[0] != place])
         if least != 0:
             others = (*others[:at], (judged(place), judged(least), order, many), *others[at:])
-        self._log.change((kept, free, others))
+        self._log.go_on((kept, free, others))
 
     def undo(self):
         """Takes back the last deed that is not taken back yet."""
-        self._log.undo()
+        self._log.go_back()
 
     def attempt(self, action):
         """What action(room) returns; if it raises an error, the room is as before."""
-        return self._log.attempt(self, action)
+        return self._log.attempted(self, action)
 
     def copied(self):
         """A new room with the same state."""
         room = Buddies(self.top)
-        room._log = self._log.copied()
+        room._log = self._log.twin()
         return room
 
     def __getitem__(self, at):

@@ -18,21 +18,21 @@ class Log:
         """What the object holds now."""
         return self.now[0]
 
-    def undoable(self):
+    def many_before(self):
         """How many changes can be taken back."""
         return self.now[2]
 
-    def change(self, content):
+    def go_on(self, content):
         """Puts a new content in place, which can be taken back."""
         self.now = (content, self.now, self.now[2] + 1)
 
-    def undo(self):
+    def go_back(self):
         """Takes the last change back."""
         if self.now[1] is None:
             raise NothingToUndo()
         self.now = self.now[1]
 
-    def attempt(self, owner, action):
+    def attempted(self, owner, action):
         """What an action gives; if it raises an error, this moment comes back."""
         before = self.now
         behind = before
@@ -43,7 +43,7 @@ class Log:
             self.now = behind
         return result
 
-    def explore(self, owner, action):
+    def explored(self, owner, action):
         """What an action gives; this moment comes back in any case."""
         before = self.now
         try:
@@ -52,7 +52,7 @@ class Log:
             self.now = before
         return result
 
-    def copied(self):
+    def twin(self):
         """A new log of the same moment."""
         log = Log(None)
         log.now = self.now

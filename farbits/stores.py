@@ -31,7 +31,7 @@ class Store:
             raise InvalidName(at)
         form = judged(number_form(worth))
         forms = self._log.content()
-        self._log.change({**forms, at: form})
+        self._log.go_on({**forms, at: form})
 
     def __iter__(self):
         raise TypeError("a store is not iterated over")
@@ -56,7 +56,7 @@ class Store:
         forms = self._log.content()
         if not is_name(name) or name not in forms:
             raise UnknownName(name)
-        self._log.change({other: forms[other] for other in forms if other != name})
+        self._log.go_on({other: forms[other] for other in forms if other != name})
 
     def forms(self):
         """A new dict of all names and forms."""
@@ -64,7 +64,7 @@ class Store:
 
     def hold(self, forms):
         """Takes a dict of names and forms, none of them too large, as one change."""
-        self._log.change(dict(forms))
+        self._log.go_on(dict(forms))
 
     def copied(self):
         """A new store with the same names and numbers, and nothing to undo."""
@@ -72,16 +72,16 @@ class Store:
 
     def undo(self):
         """Takes the last change back that is not taken back yet."""
-        self._log.undo()
+        self._log.go_back()
 
     def undoable(self):
         """How many changes can be taken back."""
-        return self._log.undoable()
+        return self._log.many_before()
 
     def attempt(self, action):
         """What action(store) returns; if it raises an error, the store is as before."""
-        return self._log.attempt(self, action)
+        return self._log.attempted(self, action)
 
     def explore(self, action):
         """What action(store) returns; the store is as before in any case."""
-        return self._log.explore(self, action)
+        return self._log.explored(self, action)

@@ -12,6 +12,7 @@ MARKS = ["=", "+=", "-=", "*=", "//=", "<<=", ">>=", "&=", "|=", "^="]
 SIGNS = ["==", "!=", "<=", "<", ">=", ">"]
 GROUP = {"+": 1, "-": 1, "<<": 2, "&": 3, "|": 3, "^": 3}
 MOST = 10000
+MOST_ROUNDS = 200
 
 
 class BadProgram(Exception):
@@ -188,6 +189,8 @@ class PlainRun:
             for _ in range(min(count, MOST + 1)):
                 self.block(block)
         elif count > 0:
+            if count > MOST_ROUNDS:
+                raise Skipped()
             before = dict(self.values)
             self.first_round(block)
             self.values = before
@@ -209,5 +212,8 @@ class PlainRun:
             if statement[0] == "assign":
                 self.do_assign(statement)
             else:
-                for _ in range(self.value(statement[1], statement[2])):
+                count = self.value(statement[1], statement[2])
+                if count > MOST_ROUNDS:
+                    raise Skipped()
+                for _ in range(count):
                     self.round(statement[5])
