@@ -7,7 +7,7 @@ from farbits.history import Log
 from farbits.leading import joined_rows
 from farbits.limits import judged
 from farbits.maps import map_of
-from farbits.names import is_name
+from farbits.names import is_name, row_named
 from farbits.places import places_of, size_form, without
 from farbits.raw import both, either, minus, plus
 from farbits.spans import form_of_ranges, gap_from, rows_before, rows_within, widest_gap
@@ -32,7 +32,7 @@ class Book:
         if not is_name(name):
             raise InvalidName(name)
         rooms, kept = self._log.content()
-        if room_named(rooms, name) is not None:
+        if row_named(rooms, name) is not None:
             raise NameTaken(name)
         amount, step, first = size_form(size), place_form(level), place_form(above)
         if len(rooms) == MOST_ROOMS:
@@ -184,24 +184,15 @@ class Book:
 
     def __contains__(self, x):
         rooms, _ = self._log.content()
-        return room_named(rooms, x) is not None
+        return row_named(rooms, x) is not None
 
     def __len__(self):
         return len(self._log.content()[0])
 
 
-def room_named(rooms, name):
-    """The row of the room that any value is the name of, or None."""
-    if is_name(name):
-        for room in rooms:
-            if room[2] == name:
-                return room
-    return None
-
-
 def room_of(rooms, name):
     """The row of the room that any value is the name of, or UnknownName."""
-    room = room_named(rooms, name)
+    room = row_named(rooms, name)
     if room is None:
         raise UnknownName(name)
     return room

@@ -3,12 +3,13 @@
 from farbits.cells import block_around, block_from, block_number, fitting, free_row, freed
 from farbits.cells import greatest_order, is_free, many_blocks, many_fitting
 from farbits.cells import many_of_order, order_of_block, used
+from farbits.covers import far_tuple
 from farbits.errors import Guarded, InvalidName, NameTaken, NoBlock, NoBuddy, Outside
 from farbits.errors import UnknownName
 from farbits.far import far_of, number_form, place_form
 from farbits.history import Log
 from farbits.limits import judged
-from farbits.names import is_name
+from farbits.names import is_name, row_named
 from farbits.raw import minus, plus, plus_one, shifted_up, total
 from farbits.spans import rounded_down, rows_before
 from farbits.turns import compare
@@ -39,14 +40,14 @@ class Buddies:
             raise NameTaken(name)
         start, stop = block_for(free, place_form(order), order)
         self._log.go_on(with_block(kept, free, guards, (start, stop, name, place_form(order))))
-        return far_pair((start, stop))
+        return far_tuple((start, stop))
 
     def give(self, name):
         """Frees the block of a name, and returns the free block that holds its cells."""
         kept, free, guards = self._log.content()
         start, stop, _, _ = row_of(kept, name)
         more = freed(free, start, stop)
-        told = far_pair(block_around(more, start))
+        told = far_tuple(block_around(more, start))
         self._log.go_on((without_block(kept, name), more, guards))
         return told
 
@@ -93,7 +94,7 @@ class Buddies:
     def __getitem__(self, at):
         kept, _, _ = self._log.content()
         start, stop, _, _ = row_of(kept, at)
-        return far_pair((start, stop))
+        return far_tuple((start, stop))
 
     def __iter__(self):
         raise TypeError("a room is not iterated over")
@@ -113,7 +114,7 @@ class Buddies:
     def guards(self):
         """The list of (order, many), orders ascending."""
         _, _, guards = self._log.content()
-        return [far_pair((row[0], row[1])) for row in guards]
+        return [far_tuple((row[0], row[1])) for row in guards]
 
     def who(self, address):
         """The name whose block holds an address, or None."""
@@ -132,7 +133,7 @@ class Buddies:
 
     def free_ranges(self):
         """The list of the longest ranges of free cells, ascending."""
-        return [far_pair((start, stop)) for start, stop, _ in self._free()]
+        return [far_tuple((start, stop)) for start, stop, _ in self._free()]
 
     def free_cells(self):
         """How many cells are free."""
@@ -155,7 +156,7 @@ class Buddies:
         block = block_number(self._free(), number_form(k))
         if block is None:
             raise NoBlock(k)
-        return far_pair(block)
+        return far_tuple(block)
 
     def greatest(self):
         """The greatest order of a free block, or None."""
@@ -166,7 +167,7 @@ class Buddies:
         """The block that take would keep, guards apart, or None."""
         wanted = place_form(order)
         block = fitting(self._free(), wanted)
-        return None if block is None else far_pair(block_from(block[0], wanted))
+        return None if block is None else far_tuple(block_from(block[0], wanted))
 
     def halvings(self, order):
         """How often take would halve the free block that it looks at."""
@@ -182,7 +183,7 @@ class Buddies:
         if compare(rank, 0) < 0 or compare(rank, minus(most, wanted)) >= 0:
             raise NoBlock(j)
         _, half = block_from(block[0], minus(minus(most, 1), rank))
-        return far_pair(block_from(half, minus(minus(most, 1), rank)))
+        return far_tuple(block_from(half, minus(minus(most, 1), rank)))
 
     def joinings(self, name):
         """How often give would join the block of a name with a free half."""
@@ -197,22 +198,7 @@ class Buddies:
         if compare(rank, 0) < 0 or compare(rank, joinings_of(free, row)) >= 0:
             raise NoBlock(j)
         order = plus_one(plus(row[3], rank))
-        return far_pair(block_from(rounded_down(row[0], order), order))
-
-
-def far_pair(forms):
-    """The pair of the numbers with these forms, judged from left to right."""
-    first, second = forms
-    return far_of(first), far_of(second)
-
-
-def row_named(kept, name):
-    """The row of the block that is kept under any value as its name, or None."""
-    if is_name(name):
-        for row in kept:
-            if row[2] == name:
-                return row
-    return None
+        return far_tuple(block_from(rounded_down(row[0], order), order))
 
 
 def row_of(kept, name):

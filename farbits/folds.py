@@ -7,7 +7,7 @@ shifts by it, and (BITS, mask, toggled) makes (x & mask) ^ toggled of x.
 from farbits.expressions import NAME
 from farbits.raw import both, differ, flip, minus, opposite, plus, shifted_down, shifted_up
 from farbits.raw import times
-from farbits.trees import Assignment, Repeat
+from farbits.trees import Assignment, Repeat, statements_within
 from farbits.turns import turns_in
 
 SUMS = "sums"
@@ -31,16 +31,6 @@ def is_foldable(block):
         return False
     bound = [statement for statement in found if has_name_of(statement.steps, groups)]
     return not bound or (len(steps) == len(found) and are_sums_of_sums(bound, groups))
-
-
-def statements_within(block):
-    """The list of the statements of a block of steps and repeats, at any depth."""
-    found = []
-    for statement in block:
-        found.append(statement)
-        if isinstance(statement, Repeat):
-            found.extend(statements_within(statement.block))
-    return found
 
 
 def groups_of(steps):

@@ -9,7 +9,7 @@ from farbits.leading import rows_with, text_of_row
 from farbits.limits import judged
 from farbits.places import Places, places_of
 from farbits.raw import plus
-from farbits.spans import form_of_ranges, ranges_in, rows_before
+from farbits.spans import ranges_in, rows_before
 from farbits.turns import compare, is_negative
 
 MOST_PIECES = 200

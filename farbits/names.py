@@ -18,3 +18,12 @@ def row_end(text, start, letters):
     while end < len(text) and text[end] in letters:
         end += 1
     return end
+
+
+def row_named(rows, name):
+    """The row (start, stop, name, ..) that any value is the name of, or None."""
+    if is_name(name):
+        for row in rows:
+            if row[2] == name:
+                return row
+    return None

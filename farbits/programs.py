@@ -3,7 +3,7 @@
 from farbits.errors import FarError, Stopped
 from farbits.runs import Run
 from farbits.statements import block_of
-from farbits.trees import Assignment, Choice, Repeat
+from farbits.trees import Assignment, Repeat, statements_within
 
 
 class Program:
@@ -28,28 +28,14 @@ class Program:
     def folded(self):
         """The list of the numbers of all lines with a folded repeat, ascending."""
         return [
-            statement.line for statement in all_statements(self._block)
+            statement.line for statement in statements_within(self._block)
             if isinstance(statement, Repeat) and statement.is_folded
         ]
 
     def assigned(self):
         """The list of the names that the program assigns, ascending."""
         names = {}
-        for statement in all_statements(self._block):
+        for statement in statements_within(self._block):
             if isinstance(statement, Assignment):
                 names[statement.name] = True
         return sorted([str(name) for name in names])
-
-
-def all_statements(block):
-    """The list of the statements of a block at any depth, in the order of their lines."""
-    found = []
-    for statement in block:
-        found.append(statement)
-        if isinstance(statement, Repeat):
-            found.extend(all_statements(statement.block))
-        elif isinstance(statement, Choice):
-            found.extend(all_statements(statement.block))
-            if statement.other is not None:
-                found.extend(all_statements(statement.other))
-    return found

@@ -34,3 +34,17 @@ class Repeat:
         self.steps = steps
         self.block = []
         self.is_folded = False
+
+
+def statements_within(block):
+    """The list of the statements of a block at any depth, in the order of their lines."""
+    found = []
+    for statement in block:
+        found.append(statement)
+        if isinstance(statement, Repeat):
+            found.extend(statements_within(statement.block))
+        elif isinstance(statement, Choice):
+            found.extend(statements_within(statement.block))
+            if statement.other is not None:
+                found.extend(statements_within(statement.other))
+    return found

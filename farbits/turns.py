@@ -153,28 +153,29 @@ def compare(x, y):
 
 def compare_far(x, y):
     """compare for two tuples with the same sign."""
-    same = common_tail(x, y)
-    if same == len(x) and same == len(y):
-        return 0
-    if same == len(x):
-        later = -1
-    elif same == len(y):
-        later = 1
-    else:
+    most = min(len(x), len(y))
+    same = 0
+    while same < most and x[-1 - same] == y[-1 - same]:
+        same += 1
+        if same == FEW_TURNS:
+            same = common_tail(x, y, most)
+            break
+    if same < most:
         later = compare(x[-1 - same], y[-1 - same])
+    elif len(x) == len(y):
+        return 0
+    else:
+        later = -1 if same == len(x) else 1
     # Above the first turn that differs both have one bit, and just below it
     # the one with the later turn has the other bit.
     return -later if (len(x) - same) & 1 else later
 
 
-def common_tail(x, y):
-    """How many turns, from the last one on, two tuples have in common."""
-    most = min(len(x), len(y))
-    same = 0
-    while same < FEW_TURNS and same < most and x[-1 - same] == y[-1 - same]:
-        same += 1
+def common_tail(x, y, most):
+    """How many turns, from the last one on, two tuples have in common: more than a few."""
     # One by one is slow for long tails: slices of growing length are compared.
-    step = same if same == FEW_TURNS else 0
+    same = FEW_TURNS
+    step = same
     while step:
         more = same + step
         if more <= most and x[len(x) - more:len(x) - same] == y[len(y) - more:len(y) - same]:
